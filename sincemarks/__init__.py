@@ -1,0 +1,1 @@
+"""Sincemarks: a store of a branching history within bounds."""
