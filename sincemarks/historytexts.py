@@ -2,22 +2,19 @@
 from sincemarks.errors import InvalidText
 from sincemarks.historykinds import is_parent
 from sincemarks.usable import require
-from sincemarks.words import integer_in
+from sincemarks.words import integer_in, integers_behind, numbers_line
 from sincemarks.worthkinds import is_kind, is_kind_bound, is_kind_name, kind_length
 
 
 def history_line(history):
     """The word history and the parents."""
-    return " ".join(["history"] + [str(parent) for parent in history])
+    return numbers_line("history", history)
 
 
 def read_history(text):
     """The history with this line; InvalidText tells from which word on it is none."""
     require(isinstance(text, str), "text")
-    words = text.split(" ")
-    if words[0] != "history":
-        raise InvalidText(0, 0)
-    parents = [integer_in(word) for word in words[1:]]
+    parents = integers_behind("history", text, 0)
     for index, parent in enumerate(parents):
         if not is_parent(index, parent):
             raise InvalidText(0, index + 1)

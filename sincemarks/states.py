@@ -17,14 +17,14 @@ def state_of(kind, history, changes, version):
     """The changes on the path of version, put together."""
     require_changes(kind, history, changes)
     require(is_version(history, version), "version")
-    return _put_on(kind, changes, path_of(history, version))
+    return put_on(kind, changes, path_of(history, version))
 
 
 def states_of(kind, history, changes):
     """The states of all versions, from 0 on."""
     require_changes(kind, history, changes)
     versions = range(len(history) + 1)
-    return tuple([_put_on(kind, changes, path_of(history, at)) for at in versions])
+    return tuple([put_on(kind, changes, path_of(history, at)) for at in versions])
 
 
 def between(kind, history, changes, one, other):
@@ -34,7 +34,7 @@ def between(kind, history, changes, one, other):
     require(_leads(history, one, other), "other")
     before = path_of(history, one)
     added = [at for at in path_of(history, other) if at not in before]
-    return _put_on(kind, changes, added)
+    return put_on(kind, changes, added)
 
 
 def taken_over(kind, history, changes, one, other):
@@ -60,5 +60,6 @@ def _leads(history, one, other):
     return one == other or one in elders_of(history, other)
 
 
-def _put_on(kind, changes, versions):
+def put_on(kind, changes, versions):
+    """The changes of versions, in their sequence, put together."""
     return put_together(kind, tuple([changes[version - 1] for version in versions]))

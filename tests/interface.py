@@ -65,9 +65,120 @@ MODULES = {
         "kind_line": ("kind",),
         "read_kind": ("text",),
     },
+    "storekinds": {"is_store": ("history", "thing")},
+    "storechecker": {"lets_store": ("history", "thing")},
+    "storecounts": {
+        "writes_of": ("history", "store"),
+        "reads_of": ("history", "store"),
+        "lean": ("history", "store"),
+    },
+    "faults": {
+        "fault_of": ("history", "store"),
+        "is_right": ("history", "store"),
+        "manner_of": ("history", "store"),
+    },
+    "answers": {
+        "sheet_worth": ("kind", "changes", "sheet"),
+        "answer_of": ("kind", "history", "changes", "store", "version"),
+    },
+    "baseskinds": {
+        "is_bases": ("history", "thing"),
+        "is_plan": ("history", "thing"),
+        "crossing_of": ("history", "bases"),
+    },
+    "chains": {
+        "chain_of": ("history", "bases", "version"),
+        "sheet_of": ("history", "bases", "version"),
+        "reads_by": ("history", "bases"),
+        "writes_by": ("history", "bases"),
+        "holders_of": ("history", "bases", "change"),
+        "readers_of": ("history", "bases", "version"),
+        "store_by": ("history", "bases"),
+    },
+    "goods": {
+        "is_good": ("history", "store", "version"),
+        "good_version": ("history", "store"),
+        "good_signs": ("history", "store", "version"),
+    },
+    "leading": {"led": ("history", "store")},
+    "leadchecker": {"lets_lead": ("history", "store", "thing")},
+    "leadpapers": {"lead_paper": ("history", "store")},
+    "storetexts": {
+        "store_lines": ("history", "store"),
+        "read_store": ("history", "lines"),
+        "bases_line": ("history", "bases"),
+        "read_bases": ("history", "text"),
+    },
+    "heights": {
+        "is_heights": ("history", "thing"),
+        "bases_by": ("history", "heights"),
+        "heights_of": ("history", "bases"),
+        "records_of": ("history", "heights", "version"),
+        "open_at": ("history", "heights", "version"),
+        "open_row": ("history", "heights", "version"),
+    },
+}
+
+# Each class with its module, its base, and what is listed for it; "*" marks what goes by name alone.
+CLASSES = {
+    "Told": {
+        "module": "historyclasses",
+        "base": None,
+        "parameters": ("kind", "history", "changes"),
+        "methods": {
+            "told": (),
+            "state": ("version",),
+            "way": ("one", "other"),
+            "taken": ("one", "other"),
+            "left": ("versions",),
+            "put": ("version", "change"),
+            "hung": ("version", "other"),
+        },
+        "properties": (),
+        "signs": {"__len__": (), "__eq__": ("other",)},
+    },
+    "Numbers": {
+        "module": "historyclasses",
+        "base": "Told",
+        "parameters": ("history", "changes"),
+        "methods": {"gain": ("one", "other"), "highest": (), "lowest": ()},
+        "properties": (),
+        "signs": {},
+    },
+    "Store": {
+        "module": "storeclasses",
+        "base": None,
+        "parameters": ("history", "sheets", "read"),
+        "methods": {"with_sheet": ("sheet", "*by")},
+        "properties": ("tree", "pair"),
+        "signs": {
+            "__len__": (), "__eq__": ("other",), "__contains__": ("thing",), "__add__": ("other",),
+            "__call__": ("version",),
+        },
+    },
+    "Based": {
+        "module": "storeclasses",
+        "base": "Store",
+        "parameters": ("history", "bases"),
+        "methods": {"rebased": ("version", "*base")},
+        "properties": ("since",),
+        "signs": {},
+    },
 }
 
 PARAMETERS = {name: names for functions in MODULES.values() for name, names in functions.items()}
+
+
+
+def listed(class_name, word):
+    """The parameters of a method or sign, which may be listed for a class above."""
+    while class_name is not None:
+        told = CLASSES[class_name]
+        if word in told["methods"] or word in told["signs"]:
+            return {**told["methods"], **told["signs"]}[word]
+        class_name = told["base"]
+    raise KeyError(word)
+
 
 # Each error with its family and its fields.
 ERRORS = {

@@ -1,7 +1,9 @@
 """The examples of the document, word for word."""
+import importlib
+
 from sincemarks.errors import MarkError
 from tests.cases import Case
-from tests.interface import ERRORS
+from tests.interface import CLASSES, ERRORS, MODULES
 
 EXAMPLES = '''
     >>> LINE, FORK, WIDE = (0, 1, 2, 3, 4), (0, 1, 2, 1, 4, 5, 6), (0, 1, 1, 1)
@@ -28,6 +30,52 @@ EXAMPLES = '''
     '0:-5,3:x'
     >>> read_history("history 0 2")
     raises InvalidText(line=0, field=2)
+
+    >>> from sincemarks.historyclasses import Numbers
+    >>> N = Numbers((0, 1, 1), (4, -6, 3))
+    >>> [N.highest(), N.gain(2, 3), N.left((2, 3)).told()]
+    [(3, 7), 9, (('sum',), (0, 0), (-2, 7))]
+
+    >>> W = (((1,), (2,), (1, 2), (2,)), ((), (0,), (0, 1, 2)))
+    >>> from sincemarks.storecounts import writes_of, reads_of
+    >>> [writes_of((0, 1), W), reads_of((0, 1), W)]
+    [(2, 3), (0, 1, 3)]
+
+    >>> from sincemarks.faults import fault_of, manner_of
+    >>> [fault_of((0, 1), (((1, 2),), ((), (0,), (0,)))), manner_of((0, 1), W)]
+    [(1, 2), 'any']
+
+    >>> from sincemarks.answers import answer_of
+    >>> answer_of(("sum",), (0, 1), (5, 7), W, 2)
+    raises Unserved(version=2)
+
+    >>> from sincemarks.baseskinds import crossing_of
+    >>> crossing_of((0, 1, 2, 3), (0, 1, 0, 2))
+    (3, 4)
+
+    >>> from sincemarks.chains import chain_of, holders_of, readers_of
+    >>> [chain_of(LINE, TWOS, 5), holders_of(LINE, TWOS, 1), readers_of(LINE, TWOS, 3)]
+    [(5, 3), (1, 3), (3, 4, 5)]
+
+    >>> from sincemarks.goods import good_version, good_signs
+    >>> [good_version((0, 1), W), good_signs((0, 1), W, 1), good_signs((0, 1), W, 2)]
+    [1, ((0,), (0, 0)), ((2, 1), (0,))]
+
+    >>> from sincemarks.leadchecker import lets_lead
+    >>> lets_lead((0, 1), W, ((0, 2, (2, 1), (0,)), (0, 1, (0,), (0,))))
+    (0, 0)
+    >>> lets_lead((0, 1), W, ((0, 2, (2, 1), (0,)), (0, 1, (2,), (0,))))
+    raises InvalidPaper(word='holders', at=1)
+
+    >>> from sincemarks.storetexts import read_store
+    >>> read_store((0,), ('store 1', 'sheet 1', 'read', 'read 1'))
+    raises InvalidText(line=3, field=1)
+
+    >>> H = heights_of(LINE, TWOS)
+    >>> [H, bases_by(LINE, H), records_of(LINE, H, 5), open_row(LINE, H, 2)]
+    [(2, 1, 2, 1, 1), (0, 1, 0, 3, 3), (5, 3), (2, 1)]
+    >>> bases_by((0, 1, 2, 3), heights_of((0, 1, 2, 3), (0, 1, 0, 2)))
+    (0, 1, 0, 3)
 '''
 
 
@@ -57,8 +105,15 @@ def shown(source, names):
         return f"raises {name}({fields})"
 
 
+def interface():
+    """All functions and classes, as some examples leave out imports."""
+    places = [(module, name) for module, functions in MODULES.items() for name in functions]
+    places += [(told["module"], name) for name, told in CLASSES.items()]
+    return {name: getattr(importlib.import_module(f"sincemarks.{module}"), name) for module, name in places}
+
+
 class Examples(Case):
     def test_examples(self):
-        names = {}
+        names = interface()
         for source, want in steps_of(EXAMPLES):
             self.assertEqual(shown(source, names), want, source)

@@ -4,7 +4,13 @@ import inspect
 
 from sincemarks import errors
 from tests.cases import Case
-from tests.interface import ERRORS, FAMILIES, MODULES
+from tests.interface import CLASSES, ERRORS, FAMILIES, MODULES
+
+
+def parameters_of(function):
+    """The parameters after the first one, "*" in front of those that go by name alone."""
+    found = list(inspect.signature(function).parameters.values())[1:]
+    return tuple(("*" if told.kind is told.KEYWORD_ONLY else "") + told.name for told in found)
 
 
 class Functions(Case):
@@ -16,6 +22,27 @@ class Functions(Case):
                 self.assertTrue(inspect.isfunction(function), name)
                 self.assertEqual(function.__module__, f"sincemarks.{module_name}", name)
                 self.assertEqual(tuple(inspect.signature(function).parameters), parameters, name)
+
+
+class Classes(Case):
+    def test_each_is_defined_in_its_file_with_its_base(self):
+        for name, told in CLASSES.items():
+            module = importlib.import_module(f"sincemarks.{told['module']}")
+            made = getattr(module, name)
+            self.assertEqual(made.__module__, f"sincemarks.{told['module']}", name)
+            base = object if told["base"] is None else getattr(module, told["base"])
+            self.assertEqual(made.__bases__, (base,), name)
+            self.assertEqual(parameters_of(made.__init__), told["parameters"], name)
+
+    def test_each_method_stands_in_the_class_itself(self):
+        for name, told in CLASSES.items():
+            body = vars(getattr(importlib.import_module(f"sincemarks.{told['module']}"), name))
+            for word, parameters in {**told["methods"], **told["signs"]}.items():
+                self.assertTrue(inspect.isfunction(body[word]), (name, word))
+                self.assertEqual(parameters_of(body[word]), parameters, (name, word))
+            for word in told["properties"]:
+                self.assertIsInstance(body[word], property, (name, word))
+                self.assertIsNone(body[word].fset, (name, word))
 
 
 class Errors(Case):

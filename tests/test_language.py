@@ -75,6 +75,14 @@ class Language(Case):
                 if isinstance(node, ast.Constant):
                     self.assertNotIsInstance(node.value, (float, complex), name)
 
+    def test_lists_instead_of_generator_expressions_and_sort(self):
+        # Classes of the package have signs of their own, so any, all, max and the like take lists.
+        for name, tree in trees().items():
+            for node in ast.walk(tree):
+                self.assertNotIsInstance(node, (ast.GeneratorExp, ast.Yield, ast.YieldFrom), name)
+                if isinstance(node, ast.Attribute):
+                    self.assertNotIn(node.attr, ("sort", "format", "args"), name)
+
     def test_imports(self):
         parsed = trees()
         for name, tree in parsed.items():
