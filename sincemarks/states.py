@@ -1,5 +1,5 @@
 """States of versions, and what leads from one version to another."""
-from sincemarks.cuttings import left_on, nearest_left
+from sincemarks.cuttings import nearest_left
 from sincemarks.elders import elders_of, meet_of, path_of
 from sincemarks.historykinds import are_versions, is_version
 from sincemarks.thens import put_together

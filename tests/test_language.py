@@ -95,6 +95,21 @@ class Language(Case):
                     self.assertTrue(module.startswith("sincemarks."), (name, module))
                     self.assertIn(word, defined(parsed[module.split(".")[1]]), (name, module))
 
+    def test_no_other_thing_has_the_name_of_an_import_or_a_class(self):
+        for name, tree in trees().items():
+            taken = {word for _, word in imports(tree)}
+            taken |= {node.name for node in tree.body if isinstance(node, ast.ClassDef)}
+            for node in ast.walk(tree):
+                if isinstance(node, ast.Name) and isinstance(node.ctx, ast.Store):
+                    self.assertNotIn(node.id, taken, name)
+                if isinstance(node, ast.arg):
+                    self.assertNotIn(node.arg, taken, name)
+
+    def test_each_import_is_used(self):
+        for name, tree in trees().items():
+            used = {node.id for node in ast.walk(tree) if isinstance(node, ast.Name)}
+            self.assertEqual({word for _, word in imports(tree)} - used, set(), name)
+
     def test_no_two_files_import_from_each_other(self):
         uses = {
             name: {module.split(".")[1] for module, _ in imports(tree) if module.startswith("sincemarks.")}
