@@ -2,7 +2,7 @@
 from sincemarks.branches import branch_of
 from sincemarks.elders import path_of
 from sincemarks.faults import require_right
-from sincemarks.historykinds import is_version
+from sincemarks.historykinds import all_later, is_version
 from sincemarks.storekinds import require_store
 from sincemarks.usable import require
 
@@ -28,11 +28,6 @@ def good_signs(history, store, version):
         return None
     part = all_later(history)
     return least_signs(history, cut_store(store, part), part, version)
-
-
-def all_later(history):
-    """The part of all versions from 1 on."""
-    return tuple(range(1, len(history) + 1))
 
 
 def cut_store(store, part):

@@ -27,3 +27,8 @@ def is_later_version(history, thing):
 def are_versions(history, thing):
     """Whether thing is a set of versions of history from 1 on."""
     return is_set(thing) and all([is_later_version(history, version) for version in thing])
+
+
+def all_later(history):
+    """The set of all versions of history from 1 on."""
+    return tuple(range(1, len(history) + 1))

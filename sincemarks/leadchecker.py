@@ -1,7 +1,8 @@
 """The checker of papers that lead from a right store to a plan."""
 from sincemarks.errors import InvalidPaper
 from sincemarks.faults import require_right
-from sincemarks.goods import all_later, cut_store, parted_by, signs_for
+from sincemarks.goods import cut_store, parted_by, signs_for
+from sincemarks.historykinds import all_later
 from sincemarks.kinds import is_number
 
 

@@ -1,6 +1,7 @@
 """Papers that lead from a right store to a plan."""
 from sincemarks.faults import require_right
-from sincemarks.goods import all_later, cut_store, least_good, least_signs, parted_by
+from sincemarks.goods import cut_store, least_good, least_signs, parted_by
+from sincemarks.historykinds import all_later
 
 
 def lead_paper(history, store):

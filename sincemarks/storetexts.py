@@ -4,7 +4,7 @@ from sincemarks.errors import InvalidText
 from sincemarks.kinds import is_number
 from sincemarks.storekinds import require_store
 from sincemarks.usable import require
-from sincemarks.words import integers_behind, numbers_line
+from sincemarks.words import integers_behind, numbers_line, require_each
 
 
 def store_lines(history, store):
@@ -72,9 +72,5 @@ def read_bases(history, text):
     """The bases with this line; InvalidText tells from which word on it is none."""
     require(isinstance(text, str), "text")
     bases = integers_behind("bases", text, 0)
-    for index, base in enumerate(bases):
-        if index >= len(history) or not is_base(history, index + 1, base):
-            raise InvalidText(0, index + 1)
-    if len(bases) < len(history):
-        raise InvalidText(0, len(bases) + 1)
+    require_each(bases, len(history), lambda index, base: is_base(history, index + 1, base), 1)
     return tuple(bases)

@@ -26,3 +26,15 @@ def integers_behind(name, text, line):
 def numbers_line(name, numbers):
     """The line of a name and numbers."""
     return " ".join([name] + [str(number) for number in numbers])
+
+
+def require_each(things, many, is_one, first):
+    """Refuse the first of things, told by words from the field first on, that is not as it has to be.
+
+    There have to be many of them; is_one tells it for an index and a thing.
+    """
+    for index, thing in enumerate(things):
+        if index >= many or not is_one(index, thing):
+            raise InvalidText(0, first + index)
+    if len(things) < many:
+        raise InvalidText(0, first + len(things))

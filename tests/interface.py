@@ -117,6 +117,63 @@ MODULES = {
         "open_at": ("history", "heights", "version"),
         "open_row": ("history", "heights", "version"),
     },
+    "rows": {
+        "is_row": ("thing",),
+        "merged": ("rows",),
+        "stepped": ("width", "floor", "row"),
+        "unlike_at": ("one", "other"),
+    },
+    "boundkinds": {"is_bounds": ("history", "thing")},
+    "boundchecker": {"lets_bounds": ("history", "thing")},
+    "boundmaking": {
+        "level_bounds": ("history", "width", "reach"),
+        "floors_of": ("history", "bounds"),
+        "raised_bounds": ("history", "bounds", "many"),
+        "one_bound": ("history", "bounds", "version", "width", "reach"),
+    },
+    "keeping": {
+        "keeps": ("history", "bounds", "store"),
+        "broken_at": ("history", "bounds", "store"),
+    },
+    "walks": {
+        "rows_of": ("history", "bounds"),
+        "walk_heights": ("history", "bounds"),
+        "top_of": ("history", "bounds"),
+        "can_keep": ("history", "bounds"),
+        "plan_for": ("history", "bounds"),
+    },
+    "margins": {
+        "margin_of": ("history", "bounds"),
+        "lifted_reach": ("history", "bounds", "version"),
+        "lifted_width": ("history", "bounds", "version"),
+    },
+    "walls": {
+        "rows_on": ("history", "bounds", "versions"),
+        "walled": ("history", "bounds", "versions"),
+        "wall_in": ("history", "bounds"),
+    },
+    "keeppapers": {"keep_paper": ("history", "bounds")},
+    "keepchecker": {"lets_keep": ("history", "bounds", "thing")},
+    "boundtexts": {
+        "bounds_line": ("history", "bounds"),
+        "read_bounds": ("history", "text"),
+        "heights_line": ("history", "heights"),
+        "read_heights": ("history", "text"),
+    },
+    "choosing": {
+        "choose": ("top", "few"),
+        "capacity": ("width", "reach"),
+    },
+    "rownumbers": {
+        "number_of": ("width", "row"),
+        "row_of": ("width", "number"),
+        "next_row": ("width", "row"),
+    },
+    "joining": {
+        "joined": ("width", "one", "other"),
+        "joined_all": ("width", "numbers"),
+        "joined_many": ("width", "number", "many"),
+    },
 }
 
 # Each class with its module, its base, and what is listed for it; "*" marks what goes by name alone.
@@ -164,10 +221,33 @@ CLASSES = {
         "properties": ("since",),
         "signs": {},
     },
+    "Kept": {
+        "module": "boundclasses",
+        "base": None,
+        "parameters": ("history", "bounds"),
+        "methods": {
+            "as_told": (),
+            "plan": (),
+            "row_at": ("version",),
+            "slack": (),
+            "kept_by": ("store",),
+            "may": ("version", "width", "reach"),
+            "bind": ("version", "width", "reach"),
+        },
+        "properties": (),
+        "signs": {"__len__": (), "__iter__": (), "__eq__": ("other",)},
+    },
+    "Level": {
+        "module": "boundclasses",
+        "base": "Kept",
+        "parameters": ("history", "width", "reach"),
+        "methods": {"as_pair": (), "turn": ("width", "reach")},
+        "properties": (),
+        "signs": {},
+    },
 }
 
 PARAMETERS = {name: names for functions in MODULES.values() for name, names in functions.items()}
-
 
 
 def listed(class_name, word):

@@ -76,6 +76,47 @@ EXAMPLES = '''
     [(2, 1, 2, 1, 1), (0, 1, 0, 3, 3), (5, 3), (2, 1)]
     >>> bases_by((0, 1, 2, 3), heights_of((0, 1, 2, 3), (0, 1, 0, 2)))
     (0, 1, 0, 3)
+
+    >>> [merged(((2,), (1, 1))), stepped(2, 1, (2, 1, 1)), stepped(1, 3, ()), unlike_at((2, 1), (2,))]
+    [(2, 1, 1), (2, 2), (3,), 1]
+
+    >>> SHORT, TIGHT = (0, 1), (2, ((1, 2), (1, 1)))
+    >>> [floors_of(SHORT, TIGHT), raised_bounds(SHORT, TIGHT, 1), one_bound(SHORT, TIGHT, 2, 5, 2)]
+    [(1, 2), (3, ((1, 3), (1, 2))), (2, ((1, 2), (5, 2)))]
+
+    >>> [plan_for(LINE, LEVEL), rows_of(SHORT, TIGHT), top_of(SHORT, TIGHT)]
+    [(0, 1, 0, 3, 3), ((3,), (2,)), 3]
+    >>> plan_for(SHORT, TIGHT)
+    raises Unkept(wall=(1, 2))
+
+    >>> [margin_of(SHORT, TIGHT), lifted_reach(SHORT, TIGHT, 1), lifted_reach(SHORT, TIGHT, 2), lifted_width(SHORT, TIGHT, 1)]
+    [1, None, 2, 2]
+
+    >>> STEEP = level_bounds(LINE, 1, 2)
+    >>> [rows_on(LINE, STEEP, (1, 3, 4)), wall_in(LINE, STEEP)]
+    [((4, (1,)), (3, (2,)), (1, (3,))), (1, 2, 3)]
+
+    >>> lets_keep(LINE, STEEP, ("wall", ((3, (1,)), (2, (2,)), (1, (3,)))))
+    False
+
+    >>> [bounds_line(SHORT, TIGHT), heights_line(SHORT, (2, 1))]
+    ['bounds 2 1:2 1:1', 'heights 2 1']
+    >>> read_bounds(SHORT, "bounds 2 1:3 1:1")
+    raises InvalidText(line=0, field=2)
+
+    >>> book = Kept(LINE, LEVEL)
+    >>> [book.may(2, 2, 1), book.may(3, 2, 1), list(book)[0]]
+    [False, True, (2, 2)]
+    >>> book.bind(2, 2, 1)
+    raises Unkept(wall=(1, 2, 3, 4, 5))
+
+    >>> from sincemarks.rownumbers import number_of, row_of, next_row
+    >>> [number_of(2, (2, 1)), row_of(2, 9), next_row(2, (2, 2)), row_of(5, 0)]
+    [4, (3, 3), (3,), ()]
+
+    >>> from sincemarks.joining import joined, joined_all, joined_many
+    >>> [joined(2, 9, 7), joined(2, 10, 7), joined_all(2, (1, 1, 1)), joined_many(2, 3, 5)]
+    [9, 13, 2, 5]
 '''
 
 
@@ -112,8 +153,35 @@ def interface():
     return {name: getattr(importlib.import_module(f"sincemarks.{module}"), name) for module, name in places}
 
 
+# What the document tells of its examples in words.
+TOLD = '''
+    >>> LINE, FORK, TWOS, FREE = (0, 1, 2, 3, 4), (0, 1, 2, 1, 4, 5, 6), (0, 1, 0, 3, 3), (0, 0, 0, 0, 0)
+    >>> LEVEL = level_bounds(LINE, 2, 2)
+    >>> [is_plan(LINE, TWOS), is_plan(LINE, FREE)]
+    [True, True]
+    >>> store_by(LINE, TWOS)[0]
+    ((1,), (2,), (1, 2, 3), (4,), (4, 5))
+    >>> [chain_of(LINE, TWOS, 5), writes_by(LINE, TWOS), reads_by(LINE, TWOS)]
+    [(5, 3), (2, 2, 1, 2, 1), (0, 1, 2, 1, 2, 2)]
+    >>> [keeps(LINE, LEVEL, store_by(LINE, TWOS)), keeps(LINE, LEVEL, store_by(LINE, FREE)), writes_by(LINE, FREE)[0]]
+    [True, False, 5]
+    >>> rows_of(LINE, LEVEL)[::-1]
+    ((1,), (1, 1), (2,), (2, 1), (2, 2))
+    >>> [number_of(2, row) for row in rows_of(LINE, LEVEL)[::-1]]
+    [1, 2, 3, 4, 5]
+    >>> [rows_of(line_of(6), level_bounds(line_of(6), 2, 2))[0], capacity(2, 2)]
+    [(3,), 6]
+'''
+
+
 class Examples(Case):
-    def test_examples(self):
+    def looked_at(self, text):
         names = interface()
-        for source, want in steps_of(EXAMPLES):
+        for source, want in steps_of(text):
             self.assertEqual(shown(source, names), want, source)
+
+    def test_examples(self):
+        self.looked_at(EXAMPLES)
+
+    def test_what_is_told_of_them(self):
+        self.looked_at(TOLD)

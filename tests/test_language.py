@@ -11,9 +11,8 @@ LIBRARY = {
     "__future__": {"annotations"},
     "heapq": {"heappush", "heappop", "heapify", "heapreplace", "heappushpop"},
     "math": {"gcd", "lcm", "isqrt", "comb", "perm", "factorial"},
-    "itertools": {
-        "product", "combinations", "permutations", "chain", "accumulate", "pairwise", "islice", "zip_longest",
-    },
+    # Not product, combinations and permutations: objects with a length are gone through.
+    "itertools": {"chain", "accumulate", "pairwise", "islice", "zip_longest"},
     "collections": {"defaultdict", "deque"},
 }
 BUILTINS = set("""
@@ -22,6 +21,12 @@ BUILTINS = set("""
     classmethod object float print Exception ValueError TypeError KeyError IndexError LookupError
     ZeroDivisionError ArithmeticError OverflowError RuntimeError NotImplementedError AttributeError StopIteration
     NotImplemented __name__
+""".split())
+METHODS = set("""
+    append clear copy count endswith extend find get index insert isalnum isalpha isdigit islower isspace isupper
+    items join keys ljust lower lstrip partition pop remove replace reverse rfind rjust rpartition rsplit rstrip
+    setdefault split splitlines startswith strip update upper values zfill bit_length removeprefix removesuffix
+    __init__
 """.split())
 
 
@@ -82,6 +87,37 @@ class Language(Case):
                 self.assertNotIsInstance(node, (ast.GeneratorExp, ast.Yield, ast.YieldFrom), name)
                 if isinstance(node, ast.Attribute):
                     self.assertNotIn(node.attr, ("sort", "format", "args"), name)
+
+    def test_methods(self):
+        parsed = trees()
+        own = {
+            node.name for tree in parsed.values() for made in tree.body if isinstance(made, ast.ClassDef)
+            for node in made.body if isinstance(node, ast.FunctionDef)
+        }
+        for name, tree in parsed.items():
+            for node in ast.walk(tree):
+                if isinstance(node, ast.Call) and isinstance(node.func, ast.Attribute):
+                    self.assertIn(node.func.attr, METHODS | own, name)
+
+    def test_ways_through_objects(self):
+        # An object is gone through as the one list or tuple that it keeps.
+        for name, tree in trees().items():
+            calls = [
+                node for node in ast.walk(tree) if isinstance(node, ast.Call) and isinstance(node.func, ast.Name)
+                and node.func.id in ("iter", "next")
+            ]
+            ways = [
+                node.body[0].value for node in ast.walk(tree)
+                if isinstance(node, ast.FunctionDef) and node.name == "__iter__"
+            ]
+            self.assertEqual([ast.dump(call) for call in calls], [ast.dump(way) for way in ways], name)
+
+    def test_words_that_stand_nowhere(self):
+        for path in files():
+            self.assertFalse(re.search("_wall|_WallAttr", path.read_text()), path)
+        for name, tree in trees().items():
+            texts = [node.value for node in ast.walk(tree) if isinstance(node, ast.Constant)]
+            self.assertFalse([text for text in texts if isinstance(text, str) and "%" in text], name)
 
     def test_imports(self):
         parsed = trees()
