@@ -117,6 +117,62 @@ EXAMPLES = '''
     >>> from sincemarks.joining import joined, joined_all, joined_many
     >>> [joined(2, 9, 7), joined(2, 10, 7), joined_all(2, (1, 1, 1)), joined_many(2, 3, 5)]
     [9, 13, 2, 5]
+
+    >>> from sincemarks.weights import weights_of, fits_level
+    >>> [weights_of(FORK, 2), fits_level(FORK, 2, 2), fits_level(FORK, 1, 4)]
+    [(5, 2, 1, 4, 3, 2, 1), True, False]
+
+    >>> from sincemarks.pairs import least_width, pairs_of
+    >>> [least_width(FORK, 1), pairs_of(WIDE), pairs_of(())]
+    [7, ((1, 2), (2, 2), (3, 2), (4, 1)), ((1, 0),)]
+
+    >>> from sincemarks.exchanging import as_line, alike_within
+    >>> [as_line(FORK, 2, 1), alike_within(2, (0, 0, 0), (0, 1)), alike_within(3, (0, 0, 0), (0, 1))]
+    [(0, 1, 2, 3, 4), True, False]
+
+    >>> from sincemarks.partingchecker import lets_parting
+    >>> lets_parting(2, (0, 0, 0), (0, 1, 2), (1, 2))
+    raises InvalidPaper(word='parts', at=-1)
+
+    >>> from sincemarks.rooms import room_of, spare_of, rooms_of
+    >>> [rooms_of((0, 1, 2), 2, 2), room_of(FORK, 2, 2, 4), spare_of(FORK, 2, 2, 1)]
+    [((None, 5), (5, 4), (4, 2), (3, 2)), 4, 2]
+    >>> room_of((0, 1, 2, 3, 4, 5), 2, 2, 1)
+    raises Unkept(wall=(1, 2, 3, 4, 5, 6))
+
+    >>> from sincemarks.shapes import shape_of, shape_size, shape_weight, shape_reach, unfolded
+    >>> FAR = ((1000000, 4, ((7, 2, ()),)),)
+    >>> [shape_size(FAR), shape_weight(2, FAR), shape_reach(2, FAR), unfolded(((1, 1, ((2, 1, ()), (1, 2, ()))),))]
+    [18000000, 9, 3, (0, 1, 1, 1, 4)]
+    >>> shape_reach(1, ((1, 10 ** 25, ()),)) == 10 ** 25
+    True
+    >>> shape_of(FORK)
+    ((1, 1, ((1, 2, ()), (1, 4, ()))),)
+
+    >>> from sincemarks.shapetexts import shape_word, read_shape
+    >>> shape_word(((1, 1, ((3, 2, ()), (1, 4, ()))), (2, 5, ())))
+    '1x1(3x2,1x4),2x5'
+    >>> read_shape("1x2(-)")
+    raises InvalidText(line=0, field=0)
+
+    >>> [is_line_plan((0, 1, 0, 2)), is_track("+--"), mirrored((0, 0, 0))]
+    [False, True, (0, 1, 2)]
+    >>> [track_of((0, 1, 0, 3, 3)), bases_from("+-++---"), turns_of("+-++---")]
+    ['++-+--++---', (0, 1, 1), ((1, 0), (2, 1), (1, 2), (0, 2))]
+
+    >>> [joined_plans((0, 1), (0, 0)), cut_of((0, 0, 2)), parts_of((0, 1, 0, 3, 3))]
+    [(0, 1, 0, 3, 3), 2, ((0, 1), (0, 0))]
+
+    >>> [plan_at(3, 0), plan_at(3, 1), plan_at(3, 2), plan_at(3, 3), plan_number((0, 0, 0))]
+    [(0, 1, 2), (0, 1, 1), (0, 0, 2), (0, 1, 0), 4]
+
+    >>> [sorted_least(5, 2), least_sum(5, 2), sorted_least(4, 1), least_greatest(6, 2)]
+    [(1, 1, 2, 2, 2), 8, (1, 2, 3, 4), 3]
+
+    >>> [grown_plan(2, 6), grown_base(2, 6), grown_chain(2, 5), grown_writes(2, 3, 4)]
+    [(0, 1, 0, 3, 3, 0), 0, (5, 3), 1]
+    >>> [grown_holders(2, 1, 10 ** 20, 4), grown_writes(1, 5, 10 ** 20), grown_greatest(2, 6)]
+    [(1, 3, 6, 10), 99999999999999999996, 3]
 '''
 
 
@@ -157,8 +213,8 @@ def interface():
 TOLD = '''
     >>> LINE, FORK, TWOS, FREE = (0, 1, 2, 3, 4), (0, 1, 2, 1, 4, 5, 6), (0, 1, 0, 3, 3), (0, 0, 0, 0, 0)
     >>> LEVEL = level_bounds(LINE, 2, 2)
-    >>> [is_plan(LINE, TWOS), is_plan(LINE, FREE)]
-    [True, True]
+    >>> [is_plan(LINE, TWOS), is_plan(LINE, FREE), is_line_plan(TWOS), is_line_plan(FREE)]
+    [True, True, True, True]
     >>> store_by(LINE, TWOS)[0]
     ((1,), (2,), (1, 2, 3), (4,), (4, 5))
     >>> [chain_of(LINE, TWOS, 5), writes_by(LINE, TWOS), reads_by(LINE, TWOS)]
@@ -169,8 +225,8 @@ TOLD = '''
     ((1,), (1, 1), (2,), (2, 1), (2, 2))
     >>> [number_of(2, row) for row in rows_of(LINE, LEVEL)[::-1]]
     [1, 2, 3, 4, 5]
-    >>> [rows_of(line_of(6), level_bounds(line_of(6), 2, 2))[0], capacity(2, 2)]
-    [(3,), 6]
+    >>> [rows_of(line_of(6), level_bounds(line_of(6), 2, 2))[0], capacity(2, 2), forest_weight(FORK, 2), many_of(FORK)]
+    [(3,), 6, 5, 7]
 '''
 
 
