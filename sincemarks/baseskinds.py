@@ -26,6 +26,11 @@ def is_plan(history, thing):
     return is_bases(history, thing) and crossing_of(history, thing) is None
 
 
+def require_plan(history, thing, name):
+    """Refuse the parameter of this name unless it is a plan of history."""
+    require(is_plan(history, thing), name)
+
+
 def crossing_of(history, bases):
     """The first pair of versions by which bases are no plan, None for a plan."""
     require_bases(history, bases)

@@ -10,10 +10,11 @@ def chain_of(history, bases, version):
     """The version, its base, the base of this one, and so on, without 0."""
     require_bases(history, bases)
     require(is_version(history, version), "version")
-    return _chain(bases, version)
+    return chain_in(bases, version)
 
 
-def _chain(bases, version):
+def chain_in(bases, version):
+    """The chain of a version, of bases that are known to be such."""
     chain = []
     at = version
     while at > 0:
@@ -26,10 +27,11 @@ def sheet_of(history, bases, version):
     """The path of a version from 1 on without that of its base."""
     require_bases(history, bases)
     require(is_later_version(history, version), "version")
-    return _sheet(history, bases, version)
+    return sheet_in(history, bases, version)
 
 
-def _sheet(history, bases, version):
+def sheet_in(history, bases, version):
+    """The sheet of a version from 1 on, of bases that are known to be such."""
     # What is on the path, behind the base, is not on the base's own path.
     return tuple([at for at in path_of(history, version) if at > bases[version - 1]])
 
@@ -49,7 +51,7 @@ def holders_of(history, bases, change):
     require_bases(history, bases)
     require(is_later_version(history, change), "change")
     later = range(change, len(history) + 1)
-    return tuple([at for at in later if change in _sheet(history, bases, at)])
+    return tuple([at for at in later if change in sheet_in(history, bases, at)])
 
 
 def readers_of(history, bases, version):
@@ -57,13 +59,13 @@ def readers_of(history, bases, version):
     require_bases(history, bases)
     require(is_later_version(history, version), "version")
     later = range(version, len(history) + 1)
-    return tuple([at for at in later if version in _chain(bases, at)])
+    return tuple([at for at in later if version in chain_in(bases, at)])
 
 
 def store_by(history, bases):
     """The store that bases make: the sheet of version v has the number v - 1."""
     require_bases(history, bases)
-    sheets = [_sheet(history, bases, version) for version in range(1, len(history) + 1)]
-    chains = [_chain(bases, version) for version in range(len(history) + 1)]
+    sheets = [sheet_in(history, bases, version) for version in range(1, len(history) + 1)]
+    chains = [chain_in(bases, version) for version in range(len(history) + 1)]
     read = [tuple(sorted([at - 1 for at in chain])) for chain in chains]
     return (tuple(sheets), tuple(read))

@@ -34,13 +34,19 @@ def read_change(kind, text):
     """The change with this word; InvalidText(0, 0) if there is none."""
     require(is_kind(kind), "kind")
     require(isinstance(text, str), "text")
-    change = _change_in(kind[0], text)
-    if not is_change(kind, change):
+    change = change_in(kind, text)
+    if change is None:
         raise InvalidText(0, 0)
     return change
 
 
-def _change_in(name, text):
+def change_in(kind, word):
+    """The change with this word, None if there is none."""
+    told = _told_in(kind[0], word)
+    return told if is_change(kind, told) else None
+
+
+def _told_in(name, text):
     # What has no such word becomes a value that is no change, mostly by a None.
     if name in ("sum", "peak"):
         return integer_in(text)

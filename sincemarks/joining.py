@@ -1,5 +1,5 @@
 """Numbers of rows joined within a width."""
-from sincemarks.kinds import is_natural, is_number
+from sincemarks.kinds import are_numbers, is_natural, is_number
 from sincemarks.rownumbers import number_of, row_of
 from sincemarks.usable import require
 
@@ -15,7 +15,7 @@ def joined(width, one, other):
 def joined_all(width, numbers):
     """All numbers of a tuple joined within width, 0 if there are none."""
     require(is_natural(width), "width")
-    require(isinstance(numbers, tuple) and all([is_number(number) for number in numbers]), "numbers")
+    require(are_numbers(numbers), "numbers")
     rows = [row_of(width, number) for number in numbers]
     return number_of(width, top_merged(width, rows))
 

@@ -18,11 +18,14 @@ def is_natural(thing):
     return is_integer(thing) and thing >= 1
 
 
+def are_numbers(thing):
+    """Whether thing is a tuple of numbers."""
+    return isinstance(thing, tuple) and all([is_number(k) for k in thing])
+
+
 def is_set(thing):
     """Whether thing is an ascending tuple of numbers, without duplicates."""
-    if not isinstance(thing, tuple) or not all([is_number(k) for k in thing]):
-        return False
-    return all([low < high for low, high in zip(thing, thing[1:])])
+    return are_numbers(thing) and all([low < high for low, high in zip(thing, thing[1:])])
 
 
 def is_letters(thing):

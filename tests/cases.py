@@ -1,5 +1,6 @@
 """The class of all test cases: each call is made by position and by name."""
 import copy
+import inspect
 import unittest
 
 from sincemarks import errors
@@ -40,14 +41,15 @@ def held_by(function):
 
 
 def called(function, names, arguments, by_name):
-    """The call by position, where this may be, or by name."""
+    """The call by position, where this may be, or by name; what a generator gives, as a list."""
     by_position, named = [], {}
     for name, argument in zip(names, arguments):
         if by_name or name.startswith("*"):
             named[name.removeprefix("*")] = argument
         else:
             by_position.append(argument)
-    return function(*by_position, **named)
+    result = function(*by_position, **named)
+    return list(result) if inspect.isgenerator(result) else result
 
 
 class Case(unittest.TestCase):

@@ -246,6 +246,54 @@ MODULES = {
         "grown_greatest": ("reach", "tip"),
         "grown_plan": ("reach", "many"),
     },
+    "bestplans": {
+        "full_plan": ("width", "reach"),
+        "best_plan": ("many", "reach"),
+        "best_for_writes": ("many", "width"),
+    },
+    "traffics": {
+        "traffic_of": ("bases", "costs", "asks"),
+        "least_traffic": ("costs", "asks"),
+        "cheapest_plan": ("costs", "asks"),
+    },
+    "prices": {"price_table": ("costs", "asks")},
+    "pricechecker": {"lets_prices": ("costs", "asks", "thing")},
+    "linetexts": {
+        "track_line": ("bases",),
+        "read_track": ("text",),
+    },
+    "sheetfilling": {"filled": ("kind", "history", "changes", "bases")},
+    "sheetchecker": {"lets_sheets": ("kind", "history", "changes", "bases", "thing")},
+    "asking": {
+        "asked": ("kind", "history", "bases", "sheets", "version"),
+        "asked_all": ("kind", "history", "bases", "sheets"),
+    },
+    "sheetpieces": {
+        "pieces_of": ("history", "bases", "version"),
+        "made_sheet": ("kind", "history", "changes", "bases", "sheets", "version"),
+    },
+    "mending": {
+        "mend_order": ("history", "bases", "version"),
+        "mend_cost": ("history", "bases", "version"),
+        "mended": ("kind", "history", "changes", "bases", "sheets", "version", "change"),
+    },
+    "losses": {
+        "spoiled_by": ("history", "bases", "versions"),
+        "most_spoiled": ("history", "bases", "many"),
+        "worst_lost": ("history", "bases", "many"),
+    },
+    "remaking": {
+        "remake_cost": ("history", "bases", "versions"),
+        "remade": ("kind", "history", "changes", "bases", "sheets", "versions"),
+    },
+    "shifting": {
+        "rewritten": ("history", "one", "other"),
+        "shifted": ("kind", "history", "changes", "one", "sheets", "other"),
+    },
+    "sheettexts": {
+        "sheets_line": ("kind", "sheets"),
+        "read_sheets": ("kind", "many", "text"),
+    },
 }
 
 # Each class with its module, its base, and what is listed for it; "*" marks what goes by name alone.
@@ -352,9 +400,39 @@ CLASSES = {
         "properties": (),
         "signs": {"__eq__": ("other",)},
     },
+    "Line": {
+        "module": "lineclasses",
+        "base": None,
+        "parameters": ("bases",),
+        "methods": {
+            "plan": (),
+            "track": (),
+            "reads": (),
+            "writes": (),
+            "place": (),
+            "mirror": (),
+            "parts": (),
+            "traffic": ("costs", "asks"),
+            "fits": ("width", "*reach"),
+            "line_chains": (),
+        },
+        "static": {"traced": ("track",)},
+        "properties": (),
+        "signs": {"__eq__": ("other",), "__call__": ("version",)},
+    },
+    "Grown": {
+        "module": "lineclasses",
+        "base": "Line",
+        "parameters": ("reach", "many"),
+        "methods": {"grow": ()},
+        "properties": (),
+        "signs": {},
+    },
 }
 
 PARAMETERS = {name: names for functions in MODULES.values() for name, names in functions.items()}
+# What is asked of a class itself.
+PARAMETERS |= {name: names for told in CLASSES.values() for name, names in told.get("static", {}).items()}
 
 
 def listed(class_name, word):

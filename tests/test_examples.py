@@ -173,6 +173,68 @@ EXAMPLES = '''
     [(0, 1, 0, 3, 3, 0), 0, (5, 3), 1]
     >>> [grown_holders(2, 1, 10 ** 20, 4), grown_writes(1, 5, 10 ** 20), grown_greatest(2, 6)]
     [(1, 3, 6, 10), 99999999999999999996, 3]
+
+    >>> [full_plan(2, 2), full_plan(1, 3), best_plan(2, 1)]
+    [(0, 1, 0, 3, 3), (0, 1, 2), (0, 0)]
+
+    >>> [traffic_of((0, 1), (3, 1), (1, 5)), least_traffic((3, 1), (1, 5)), cheapest_plan((3, 1), (1, 5))]
+    [15, 13, (0, 0)]
+
+    >>> price_table((3, 1), (1, 5))
+    ((0, 4, 13), (0, 6), (0,))
+
+    >>> lets_prices((3, 1), (1, 5), ((0, 4, 12), (0, 5), (-1,)))
+    12
+
+    >>> line = Grown(2, 4)
+    >>> [line.grow(), line == Line((0, 1, 0, 3, 3)), line(5), line.fits(2, reach=1)]
+    [3, True, (5, 3), False]
+
+    >>> SUM, TEXT, GIVEN, WORDS = ("sum",), ("text",), (5, -2, 7, 1, 4), ("a", "b", "c", "d", "e")
+
+    >>> from sincemarks.sheetfilling import filled
+    >>> filled(SUM, LINE, GIVEN, TWOS)
+    (5, -2, 10, 1, 5)
+
+    >>> from sincemarks.sheetchecker import lets_sheets
+    >>> lets_sheets(SUM, (0, 1), (5, 1), (0, 0), (5, 6))
+    2
+    >>> lets_sheets(SUM, (0, 1), (1, 1), (0, 1), (1, True))
+    raises InvalidPaper(word='sheet', at=1)
+
+    >>> from sincemarks.asking import asked, asked_all
+    >>> [asked(TEXT, (0, 1), (0, 1), ("a", "b"), 2), asked_all(SUM, LINE, TWOS, (5, -2, 10, 1, 5))]
+    ['ab', (0, 5, 3, 10, 11, 15)]
+
+    >>> from sincemarks.sheetpieces import pieces_of, made_sheet
+    >>> [pieces_of(LINE, TWOS, 3), pieces_of(LINE, TWOS, 5)]
+    [(1, 2), (4,)]
+    >>> made_sheet(TEXT, LINE, WORDS, TWOS, ("x", "y", "", "", ""), 3)
+    'xyc'
+
+    >>> from sincemarks.mending import mend_order, mend_cost, mended
+    >>> [mend_order(LINE, TWOS, 4), mend_cost(LINE, TWOS, 4)]
+    [(4, 5), (2, 1)]
+    >>> mended(SUM, LINE, GIVEN, TWOS, (5, -2, 10, 1, 5), 4, 10)
+    ((5, -2, 7, 10, 4), (5, -2, 10, 10, 14))
+
+    >>> from sincemarks.losses import spoiled_by, most_spoiled, worst_lost
+    >>> [spoiled_by(LINE, TWOS, (1, 4)), most_spoiled(LINE, TWOS, 1), worst_lost(LINE, TWOS, 1), most_spoiled(LINE, TWOS, 9)]
+    [(1, 2, 4), 3, (3,), 5]
+
+    >>> from sincemarks.remaking import remake_cost, remade
+    >>> [remake_cost(LINE, TWOS, (3, 5)), remade(SUM, LINE, GIVEN, TWOS, (5, -2, 99, 1, 0), (3, 5))]
+    [(2, 3), (5, -2, 10, 1, 5)]
+
+    >>> from sincemarks.shifting import rewritten, shifted
+    >>> [rewritten(LINE, TWOS, FREE), shifted(TEXT, (0, 1), ("a", "b"), (0, 1), ("a", "b"), (0, 0))]
+    [(2, 4, 5), ('a', 'ab')]
+
+    >>> from sincemarks.sheettexts import sheets_line, read_sheets
+    >>> [sheets_line(TEXT, ("a", "")), sheets_line(SUM, ()), read_sheets(SUM, 2, "sheets 5 -2")]
+    ['sheets =a =', 'sheets', (5, -2)]
+    >>> read_sheets(SUM, 2, "sheets 5")
+    raises InvalidText(line=0, field=2)
 '''
 
 

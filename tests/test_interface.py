@@ -40,6 +40,9 @@ class Classes(Case):
             for word, parameters in {**told["methods"], **told["signs"]}.items():
                 self.assertTrue(inspect.isfunction(body[word]), (name, word))
                 self.assertEqual(parameters_of(body[word]), parameters, (name, word))
+            for word, parameters in told.get("static", {}).items():
+                self.assertIsInstance(body[word], staticmethod, (name, word))
+                self.assertEqual(tuple(inspect.signature(body[word].__func__).parameters), parameters, (name, word))
             for word in told["properties"]:
                 self.assertIsInstance(body[word], property, (name, word))
                 self.assertIsNone(body[word].fset, (name, word))

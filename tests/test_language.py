@@ -22,6 +22,8 @@ BUILTINS = set("""
     ZeroDivisionError ArithmeticError OverflowError RuntimeError NotImplementedError AttributeError StopIteration
     NotImplemented __name__
 """.split())
+# The methods that yield; nothing in the package asks them.
+GENERATORS = {"line_chains", "asked_each"}
 METHODS = set("""
     append clear copy count endswith extend find get index insert isalnum isalpha isdigit islower isspace isupper
     items join keys ljust lower lstrip partition pop remove replace reverse rfind rjust rpartition rsplit rstrip
@@ -84,9 +86,17 @@ class Language(Case):
         # Classes of the package have signs of their own, so any, all, max and the like take lists.
         for name, tree in trees().items():
             for node in ast.walk(tree):
-                self.assertNotIsInstance(node, (ast.GeneratorExp, ast.Yield, ast.YieldFrom), name)
+                self.assertNotIsInstance(node, (ast.GeneratorExp, ast.YieldFrom), name)
                 if isinstance(node, ast.Attribute):
                     self.assertNotIn(node.attr, ("sort", "format", "args"), name)
+                if isinstance(node, ast.FunctionDef) and any(isinstance(told, ast.Yield) for told in ast.walk(node)):
+                    self.assertIn(node.name, GENERATORS, name)
+
+    def test_generators_are_not_asked(self):
+        for name, tree in trees().items():
+            for node in ast.walk(tree):
+                asked = {getattr(node, "attr", None), getattr(node, "id", None)}
+                self.assertFalse(asked & GENERATORS, name)
 
     def test_methods(self):
         parsed = trees()
