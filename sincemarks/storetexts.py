@@ -4,7 +4,7 @@ from sincemarks.errors import InvalidText
 from sincemarks.kinds import is_number
 from sincemarks.storekinds import require_store
 from sincemarks.usable import require
-from sincemarks.words import integers_behind, numbers_line, require_each
+from sincemarks.words import are_lines, integers_behind, numbers_line, require_each
 
 
 def store_lines(history, store):
@@ -19,7 +19,7 @@ def store_lines(history, store):
 
 def read_store(history, lines):
     """The store with these lines; InvalidText tells from where on it is none."""
-    require(isinstance(lines, tuple) and all([isinstance(text, str) for text in lines]), "lines")
+    require(are_lines(lines), "lines")
     if len(lines) == 0:
         raise InvalidText(0, 0)
     many = _many_in(lines[0])

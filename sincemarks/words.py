@@ -38,3 +38,18 @@ def require_each(things, many, is_one, first):
             raise InvalidText(0, first + index)
     if len(things) < many:
         raise InvalidText(0, first + len(things))
+
+
+def are_lines(thing):
+    """Whether thing is a tuple of strings."""
+    return isinstance(thing, tuple) and all([isinstance(text, str) for text in thing])
+
+
+def read_at(lines, index, read):
+    """What a reader of one line reads in the line with this index; InvalidText tells the index, too."""
+    if index >= len(lines):
+        raise InvalidText(index, 0)
+    try:
+        return read(lines[index])
+    except InvalidText as wrong:
+        raise InvalidText(index, wrong.field) from None

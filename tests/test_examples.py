@@ -235,6 +235,101 @@ EXAMPLES = '''
     ['sheets =a =', 'sheets', (5, -2)]
     >>> read_sheets(SUM, 2, "sheets 5")
     raises InvalidText(line=0, field=2)
+
+    >>> from sincemarks.sheetclasses import Filled, Sums
+    >>> book = Sums(LINE, GIVEN, TWOS)
+    >>> [book(5), book.put_right(1, 6), book(5), book.lose(4), book.worths_now]
+    [15, (1, 3), 16, (4,), (6, -2, 11, None, 5)]
+    >>> book(4)
+    raises Unserved(version=4)
+    >>> [book.raise_by(5, 2), book.lost_now, book(4), book.apart(5, 2)]
+    [(4, 5), (), 12, -14]
+
+    >>> from sincemarks.liveevents import is_event, is_log
+    >>> [is_event(("sum",), 0, ("take", 0, 0)), is_event(("sum",), 2, ("mend", 0, 5)), is_event(("sum",), 1, ("drop", True))]
+    [True, False, False]
+    >>> [is_log((("sum",), 2, 2, 2, (("commit", 0, 5), ("drop", 1)))), is_log((("sum",), 2, 2, 2, (("drop", 1),)))]
+    [True, False]
+
+    >>> from sincemarks.renewing import renewed
+    >>> THREE = (2, ((2, 2), (2, 2), (2, 2)))
+    >>> [renewed((0, 1, 1), THREE, ((1, 1), (), (1,)), 2), renewed((0, 1, 1), THREE, ((1, 1), (1,), (1,)), 3)]
+    [(((2,), (1,), (1,)), (2, 1)), (((1, 1), (1,), (1,)), (3,))]
+
+    >>> from sincemarks.live import LiveMarks
+    >>> book = LiveMarks(("sum",), 2, 2, 2)
+    >>> book.do_all((("commit", 0, 5), ("commit", 1, 7), ("commit", 1, 2)))
+    3
+    >>> [book.history_now(), book.rows_now(), book.bases_now(), book.sheets_now(), book.state_now(2), book.wrote_now()]
+    [(0, 1, 1), ((2,), (1,), (1,)), (0, 1, 1), (5, 7, 2), 12, (2, 3)]
+    >>> [book.barred(("graft", 2, (0, 1, 2, 3), (0, 0, 0, 0))), book.barred(("bound", 1, 1, 3)), book.barred(("drop", 4)), book.barred(("drop", 2))]
+    ['bounds', 'roof', 'form', None]
+
+    >>> [book.do(("drop", 2)), book.bases_now(), book.sheets_now(), book.wrote_now()]
+    [None, (0, 0), (5, 7), (2,)]
+    >>> [book.do(("mend", 1, 6)), book.sheets_now(), book.wrote_now()]
+    [None, (6, 8), (1, 2)]
+
+    >>> book.do_all((("commit", 2, 1), ("drop", 9)))
+    raises InvalidEvent(event=('drop', 9), reason='form')
+    >>> [book.tally(), book.undo(2), book.history_now(), book.wrote_now(), book.tally()]
+    [(6, 1, 1), None, (0, 1, 1), (2, 3), (6, 3, 1)]
+
+    >>> from sincemarks.eventtexts import event_line, read_event, read_log
+    >>> event_line(("text",), ("graft", 0, (0, 1), ("ab", "")))
+    'graft 0 2 0 1 =ab ='
+    >>> read_event(("sum",), "mend 0 5")
+    raises InvalidText(line=0, field=1)
+    >>> read_log(("kind sum", "live 2 2 2", "commit 0 5", "drop 2"))
+    raises InvalidText(line=3, field=0)
+
+    >>> thinned(("sum",), LINE, (1, 2, 4, 8, 16), LEVEL, (2, 5))
+    ((0, 1), (3, 28), (2, ((2, 2), (2, 2))))
+    >>> fitting((0, 1, 2, 1), (1, ((2, 1), (1, 1), (1, 1), (1, 1))))
+    (1, 2)
+
+    >>> AGES = ((1, 2), (3, 1))
+    >>> [calendar_bounds(4, 2, AGES), backup_plan(4, 2, AGES), backup_width(4, AGES)]
+    [(2, ((2, 1), (2, 1), (2, 2), (2, 2))), (0, 0, 2, 2), 2]
+    >>> backup_plan(4, 1, AGES)
+    raises Unkept(wall=(1, 2))
+
+    >>> [put_back((0, 0, 2, 2), 4), full_days((0, 0, 2, 2)), lost_days((0, 0, 2, 2), (2,))]
+    [(2, 4), (1, 2), (2, 3, 4)]
+
+    >>> POURING = (0, 0, 2, 0, 1)
+    >>> [pouring_of(TWOS), plan_poured(POURING), poured_counts(POURING)]
+    [(0, 0, 2, 0, 1), (0, 1, 0, 3, 3), (2, 2, 1, 2, 1)]
+    >>> [standing_after(POURING, 4), standing_after(POURING, 5)]
+    [((1, 3), (4, 4)), ((1, 3), (4, 5))]
+
+    >>> STAGING = (((1,),), ((1, 2),), ((1,), (2, 3)))
+    >>> [staging_of((0, 0, 2)), staging_counts(STAGING), led_pouring((((1,),), ((1, 2),)))]
+    [(((1,),), ((1,), (2,)), ((1, 2, 3),)), ((3, 2, 1), (1, 1, 2)), (0, 1)]
+    >>> staging_store(STAGING)
+    (((1,), (1, 2), (1,), (2, 3)), ((), (0,), (1,), (2, 3)))
+
+    >>> sums = Totals((3, 1, 4, 1, 5), TWOS)
+    >>> [sums.total(5), sums.within(1, 4), sums.parts()]
+    [14, 6, (3, 1, 8, 1, 6)]
+    >>> [sums.put(0, 10), sums.raise_by(4, -2), sums.total(5), sums.parts(), len(sums)]
+    [2, 1, 19, (10, 1, 15, 1, 4), 5]
+
+    >>> book_lines(("sum",), (0, 1), (3, 28), (2, ((2, 2), (2, 1))))
+    ('kind sum', 'history 0 1', '3', '28', 'bounds 2 2:2 2:1')
+    >>> read_book(("kind sum", "history 0", "3"))
+    raises InvalidText(line=3, field=0)
+
+    >>> [judged(LINE, LEVEL, TWOS), judged(LINE, LEVEL, FREE), settled((0, 1), (1, ((1, 1), (1, 1))))]
+    ['plan', 'none', ('wall', (1, 2))]
+
+    >>> desk = Desk()
+    >>> [desk.say("begin sum 2 2 2"), desk.say("commit 0 5"), desk.say("commit 1 7"), desk.say("bases"), desk.say("bars drop 3")]
+    ['ok', '1', '2', 'bases 0 0', 'form']
+    >>> [desk.say("state 2"), desk.say("thin 2"), desk.say("log"), desk.say("undo"), desk.counts()]
+    ['12', '1', 'commit 0 5 / commit 1 7 / drop 1', 'drop 1', (9, 0)]
+    >>> desk.say("thin 2 1")
+    raises InvalidRow(row='thin 2 1')
 '''
 
 

@@ -8,9 +8,10 @@ from tests.interface import CLASSES, ERRORS, FAMILIES, MODULES
 
 
 def parameters_of(function):
-    """The parameters after the first one, "*" in front of those that go by name alone."""
+    """The parameters after the first one; "*" in front of those that go by name alone, "**" of any number."""
     found = list(inspect.signature(function).parameters.values())[1:]
-    return tuple(("*" if told.kind is told.KEYWORD_ONLY else "") + told.name for told in found)
+    signs = {inspect.Parameter.KEYWORD_ONLY: "*", inspect.Parameter.VAR_POSITIONAL: "**"}
+    return tuple(signs.get(told.kind, "") + told.name for told in found)
 
 
 class Functions(Case):
