@@ -1,5 +1,4 @@
 """Whole books as lines."""
-from sincemarks.boundkinds import require_bounds
 from sincemarks.boundtexts import bounds_line, read_bounds
 from sincemarks.changetexts import change_word, read_change
 from sincemarks.errors import InvalidText
@@ -12,7 +11,6 @@ from sincemarks.words import are_lines, read_at
 def book_lines(kind, history, changes, bounds):
     """The line of the kind, that of the history, the words of the changes, and the line of the bounds."""
     require_changes(kind, history, changes)
-    require_bounds(history, bounds)
     words = [change_word(kind, change) for change in changes]
     return tuple([kind_line(kind), history_line(history)] + words + [bounds_line(history, bounds)])
 

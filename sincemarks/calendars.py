@@ -2,7 +2,7 @@
 from sincemarks.boundkinds import MOST, is_up_to
 from sincemarks.chains import chain_in
 from sincemarks.grafts import line_of
-from sincemarks.historykinds import all_later, are_versions, is_version
+from sincemarks.historykinds import all_later, is_version
 from sincemarks.kinds import is_number, is_set
 from sincemarks.losses import spoiled_by
 from sincemarks.tracks import require_line_plan
@@ -12,15 +12,13 @@ from sincemarks.walks import can_keep, plan_for
 
 def is_ages(thing):
     """Whether thing is a nonempty tuple of pairs (age, reach), the ages rising."""
-    if not isinstance(thing, tuple) or len(thing) == 0 or not all([_is_age(pair) for pair in thing]):
+    if not isinstance(thing, tuple) or len(thing) == 0 or not all([_has_reach(pair) for pair in thing]):
         return False
     return is_set(tuple([age for age, _ in thing]))
 
 
-def _is_age(thing):
-    if not isinstance(thing, tuple) or len(thing) != 2:
-        return False
-    return is_number(thing[0]) and is_up_to(MOST, thing[1])
+def _has_reach(thing):
+    return isinstance(thing, tuple) and len(thing) == 2 and is_up_to(MOST, thing[1])
 
 
 def calendar_bounds(days, width, ages):
@@ -49,7 +47,6 @@ def backup_plan(days, width, ages):
 def backup_width(days, ages):
     """The least width with which these bounds can be kept, 1 for no days."""
     require(is_number(days), "days")
-    require(is_ages(ages), "ages")
     # No change is in more sheets than there are days.
     return least_from(1, max(1, days), lambda width: can_keep(line_of(days), calendar_bounds(days, width, ages)))
 
@@ -70,5 +67,4 @@ def full_days(bases):
 def lost_days(bases, versions):
     """The set of the days that cannot be given back without the sheets of versions."""
     require_line_plan(bases, "bases")
-    require(are_versions(bases, versions), "versions")
     return spoiled_by(line_of(len(bases)), bases, versions)

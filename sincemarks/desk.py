@@ -57,12 +57,13 @@ class Desk:
 def _begun(row, words):
     """The new book of a row that tells its kind, its roof and its usual bounds."""
     numbers = [integer_in(word) for word in words[-3:]]
-    if len(words) < 5 or not all([is_number(number) for number in numbers]):
+    if not all([is_number(number) for number in numbers]):
         raise InvalidRow(row)
     try:
         kind = read_kind(" ".join(["kind"] + words[1:-3]))
     except InvalidText:
         raise InvalidRow(row) from None
+    # Ahead of them stand begin and the words of a kind, so there are three of them.
     roof, width, reach = numbers
     return LiveMarks(kind, roof, width, reach)
 

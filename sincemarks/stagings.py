@@ -1,9 +1,9 @@
 """Sets of runs that stand after each entry, however they come about."""
 from sincemarks.grafts import line_of
+from sincemarks.kinds import is_set
 from sincemarks.leading import led
 from sincemarks.pourings import is_pouring, pouring_of, standing_after
 from sincemarks.storecounts import reads_of, writes_of
-from sincemarks.storekinds import is_set_below
 from sincemarks.usable import require
 
 # How many entries and how many writings a staging has at most.
@@ -21,15 +21,12 @@ def is_staging(thing):
 
 
 def _may_stand(many, thing):
-    if not isinstance(thing, tuple) or not all([_is_run(many, run) for run in thing]):
+    if not isinstance(thing, tuple) or not all([is_set(run) and len(run) > 0 for run in thing]):
         return False
     if not all([low < high for low, high in zip(thing, thing[1:])]):
         return False
+    # Where they hold all entries so far, and nothing else, each run is of these alone.
     return sorted({entry for run in thing for entry in run}) == list(range(1, many + 1))
-
-
-def _is_run(many, thing):
-    return is_set_below(many + 1, thing) and len(thing) > 0 and thing[0] > 0
 
 
 def _store_of(staging):

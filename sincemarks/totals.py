@@ -3,7 +3,6 @@ from sincemarks.grafts import line_of
 from sincemarks.historykinds import is_version
 from sincemarks.kinds import is_integer, is_number
 from sincemarks.sheetclasses import Sums
-from sincemarks.tracks import is_line_plan
 from sincemarks.usable import require
 
 
@@ -12,7 +11,6 @@ class Totals:
 
     def __init__(self, numbers, bases):
         require(isinstance(numbers, tuple) and all([is_integer(number) for number in numbers]), "numbers")
-        require(is_line_plan(bases) and len(bases) == len(numbers), "bases")
         self._line = line_of(len(numbers))
         self._sums = Sums(self._line, numbers, bases)
 

@@ -105,4 +105,11 @@ class Judging(Case):
             good = (3, ((2, 3),) * len(history))
             self.refuses_each(judged, (history, good, history), {"bounds": bound_samples.bad_bounds(history)})
             self.refuses_each(settled, (history, good), {"bounds": bound_samples.bad_bounds(history)})
+            for thing in (None, (), history, (1,), 0, "plan", ((), ())):
+                for bad in bound_samples.bad_bounds(history, 5):
+                    self.refuses("bounds", judged, history, bad, thing)
+        for bad in (None, True, (), (0, ()), (1000, ()), (3, []), (3, ((1, 1),)), [3, ()], (3, (), ())):
+            self.refuses("bounds", settled, (), bad)
+            for thing in (None, (), ((), ((),))):
+                self.refuses("bounds", judged, (), bad, thing)
         self.assertIn((0, 1, 1), plain_sheets.all_plans((0, 1, 1)))

@@ -381,6 +381,7 @@ class Equality(Held):
         book = Filled(SUM, (0, 1), (1, 1), (0, 1))
         self.alike(book, Filled(("peak",), (0, 1), (1, 1), (0, 1)), False)
         self.alike(book, Filled(SUM, (0, 0), (1, 1), (0, 0)), False)
+        self.alike(Filled(SUM, (0, 1), (1, 1), (0, 0)), Filled(SUM, (0, 0), (1, 1), (0, 0)), False)
         self.alike(book, Filled(SUM, (0, 1), (1, 2), (0, 1)), False)
         self.alike(book, Filled(SUM, (0, 1), (1, 1), (0, 0)), False)
         self.alike(Filled(SUM, (), (), ()), Filled(TEXT, (), (), ()), False)

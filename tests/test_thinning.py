@@ -107,5 +107,8 @@ class Fitting(Case):
                 self.assertTrue(set(few) <= set(found), (history, width, reach))
 
     def test_refusals(self):
+        for bad in (None, True, (), (0, ()), (1000, ()), (3, []), (3, ((1, 1),)), [3, ()], (3, (), ())):
+            self.refuses("bounds", fitting, (), bad)
+            self.refuses("bounds", thinned, SUM, (), (), bad, None)
         for history in ((0, 1, 1), (0,)):
             self.refuses_each(fitting, (history, (3, ((2, 3),) * len(history))), {"bounds": bound_samples.bad_bounds(history)})
