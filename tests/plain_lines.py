@@ -2,7 +2,7 @@
 import functools
 import itertools
 
-from tests import plain, plain_bounds, plain_stores
+from tests import plain_bounds, plain_stores
 
 
 def line(many):
